@@ -1,0 +1,1 @@
+"""Rodbeads: falling rows of numbers told by beads on rods."""
