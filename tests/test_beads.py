@@ -1,21 +1,11 @@
 import unittest
 
-from rodbeads import errors
 from rodbeads.beads import beads, pairs, row_of
 from rodbeads.rows import hooks, is_row, turned
 from tests.samples import (
-    ERROR_NAMES, all_rows, bead_counts, bead_lists, bead_lists_beyond, pairs_by_count, row_by_count, small_rows,
+    Refusals, all_rows, bead_counts, bead_lists, bead_lists_beyond, pairs_by_count, row_by_count, small_rows,
     wrong_bead_lists,
 )
-
-
-class Refusals(unittest.TestCase):
-    def assert_refused(self, name, call, *given):
-        with self.assertRaises(ValueError) as caught:
-            call(*given)
-        self.assertIsInstance(caught.exception, errors.BeadError)
-        for other in ERROR_NAMES:
-            self.assertEqual(isinstance(caught.exception, getattr(errors, other)), other == name, (given, other))
 
 
 class BeadsTest(Refusals):

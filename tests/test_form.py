@@ -68,6 +68,61 @@ class FormTest(unittest.TestCase):
                 self.assertEqual(node.level, 0, name)
                 self.assertNotIn("*", [alias.name for alias in node.names], name)
 
+    def tops(self):
+        """For each file what its top defines, and what it draws from which file."""
+        found = {}
+        for path, text in self.sources():
+            defined, drawn = [], []
+            for node in ast.parse(text).body:
+                if isinstance(node, (ast.FunctionDef, ast.ClassDef)):
+                    defined.append(node.name)
+                elif isinstance(node, ast.Assign):
+                    defined.extend(target.id for target in node.targets)
+                elif isinstance(node, ast.ImportFrom):
+                    drawn.extend((node.module.partition(".")[2], alias.name) for alias in node.names)
+            found[path.stem] = (defined, drawn)
+        return found
+
+    def test_each_top_name_is_bound_once(self):
+        for name, (defined, drawn) in self.tops().items():
+            bound = defined + [one for module, one in drawn]
+            self.assertEqual(len(set(bound)), len(bound), name)
+
+    def test_names_are_drawn_from_the_file_that_defines_them(self):
+        tops = self.tops()
+        for name, (defined, drawn) in tops.items():
+            for module, one in drawn:
+                self.assertIn(one, tops[module][0], name)
+
+    def test_no_two_files_draw_from_one_another(self):
+        left = {name: {module for module, one in drawn} for name, (defined, drawn) in self.tops().items()}
+        while left:
+            free = [name for name in left if not left[name] & set(left)]
+            self.assertNotEqual(free, [], left)
+            left = {name: left[name] for name in left if name not in free}
+
+    def test_no_local_is_called_like_a_name_of_the_top(self):
+        tops = self.tops()
+        for name, node in self.nodes():
+            defined, drawn = tops[name.partition(".")[0]]
+            bound = defined + [one for module, one in drawn]
+            if isinstance(node, ast.arg):
+                self.assertNotIn(node.arg, bound, (name, node.lineno))
+            if isinstance(node, ast.Name) and isinstance(node.ctx, ast.Store) and node.col_offset > 0:
+                self.assertNotIn(node.id, bound, (name, node.lineno))
+
+    def test_assignments_texts_and_powers(self):
+        for name, node in self.nodes():
+            where = (name, getattr(node, "lineno", 0))
+            if isinstance(node, ast.Assign):
+                self.assertEqual(len(node.targets), 1, where)
+            if isinstance(node, ast.Constant) and isinstance(node.value, str):
+                self.assertNotIn("%", node.value, where)
+            if isinstance(node, ast.BinOp) and isinstance(node.op, ast.Pow):
+                self.assertIsInstance(node.right, ast.Constant, where)
+            if isinstance(node, ast.Compare) and any(isinstance(op, (ast.Is, ast.IsNot)) for op in node.ops):
+                self.assertTrue(all(isinstance(side, ast.Constant) for side in node.comparators), where)
+
     def test_statements_and_expressions(self):
         for name, node in self.nodes():
             where = (name, getattr(node, "lineno", 0), node)
